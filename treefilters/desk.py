@@ -39,11 +39,13 @@ def refuse_below_zero(row):
         raise BadNumber()
 
 
-def refuse_no_piece(desk, a, i, j):
+def passing_trees(desk, a, i, j):
+    """How many trees of a over the piece from i to j pass, as treefilters.counts tells numbers of trees."""
     if a < 0 or a >= desk.grammar.nonterminals:
         raise NoNonterminal()
     if i < 0 or j < i or j > len(desk.text):
         raise NoPiece()
+    return desk.chart().place_trees[a][i][j]
 
 
 def answer_load(desk, calls):
@@ -79,8 +81,7 @@ def answer_count(desk, calls):
     a = calls.take()
     i = calls.take()
     j = calls.take()
-    refuse_no_piece(desk, a, i, j)
-    trees = desk.chart().place_trees[a][i][j]
+    trees = passing_trees(desk, a, i, j)
     if is_endless(trees):
         return [1]
     return [0, trees]
@@ -91,8 +92,7 @@ def answer_tree(desk, calls):
     i = calls.take()
     j = calls.take()
     k = calls.take()
-    refuse_no_piece(desk, a, i, j)
-    trees = desk.chart().place_trees[a][i][j]
+    trees = passing_trees(desk, a, i, j)
     if is_endless(trees):
         raise EndlessTrees()
     if k < 0 or k >= trees:
