@@ -126,6 +126,66 @@ class Oracle:
             for rest in self.children(r, m + 1, pieces):
                 yield [(m, child)] + rest
 
+    def told_tree(self, a, i, j, told):
+        """The tree that a list of nodes tells, each a tuple; None if they tell none. Tries every parting."""
+        found = self.first_tree(a, i, j, told)
+        return found[0] if found and not found[1] else None
+
+    def first_tree(self, a, i, j, told):
+        """A tree told at the list's beginning, and the nodes behind it."""
+        if not told or told[0][0] >= len(self.rules):
+            return None
+        r = told[0][0]
+        if told[0] != (r, i, j) or self.rules[r][0] != a:
+            return None
+        for pieces in self.parted(self.rules[r][1], i, j):
+            found = self.first_children(r, pieces, told[1:])
+            if found:
+                return (r, i, j, found[0]), found[1]
+        return None
+
+    def first_children(self, r, pieces, told):
+        children = []
+        for m, symbol in enumerate(self.rules[r][1]):
+            if isinstance(symbol, int):
+                found = self.first_tree(symbol, pieces[m][0], pieces[m][1], told)
+                if not found:
+                    return None
+                children.append((m, found[0]))
+                told = found[1]
+        return children, told
+
+
+def breaks_one(rules, text, sieve, tree):
+    """Whether the tree breaks this filter, by a walk over its nodes."""
+    r, i, j, children = tree
+    if sieve[0] == 1 and rules[r][0] == sieve[1] and any(sieve[2] <= byte <= sieve[3] for byte in text[j:j + 1]):
+        return True
+    if sieve[0] == 2 and rules[r][0] == sieve[1] and text[i:j] == sieve[3:]:
+        return True
+    for m, child in children:
+        if sieve == [0, r, m, child[0]] or breaks_one(rules, text, sieve, child):
+            return True
+    return False
+
+
+def refined_by_words(nonterminals, rules, filters):
+    """The places, and the refined grammar's rules with the rules that they come from."""
+    places = [(a, []) for a in range(nonterminals)]
+    spots = [(r, m, b) for r, rule in enumerate(rules) for m, b in enumerate(rule[1]) if isinstance(b, int)]
+    place_at = {}
+    for r, m, b in spots:
+        place = (b, [s for s in range(len(rules)) if [0, r, m, s] in filters])
+        if place not in places:
+            places.append(place)
+        place_at[r, m] = places.index(place)
+    made = []
+    for number, (a, forbidden) in enumerate(places):
+        for r, (b, symbols) in enumerate(rules):
+            if a == b and r not in forbidden:
+                made.append(((number, tuple(place_at.get((r, m), one) for m, one in enumerate(symbols))), r))
+    return places, made
+
 
 def order(tree):
     """What trees of one nonterminal over one piece are ordered by."""

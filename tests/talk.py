@@ -29,6 +29,30 @@ def tree(a, i, j, k):
     return [5, a, i, j, k]
 
 
+def passes(a, i, j, nodes):
+    return [6, a, i, j, len(nodes)] + list(nodes)
+
+
+def places():
+    return [7]
+
+
+def refined():
+    return [8]
+
+
+def idle(f):
+    return [9, f]
+
+
+def ambiguous():
+    return [10]
+
+
+def held_filters():
+    return [11]
+
+
 def ask(*calls):
     """The answers, one list for each call."""
     told = answers([number for call in calls for number in call])
@@ -73,3 +97,19 @@ def filters(*some):
 
 
 SUMS = grammar(1, (0, 0, "+", 0), (0, "a"))
+
+# 0 -> 1 1 | "x" 1, 1 -> 0 | "y" | "z"
+PAIRS = grammar(2, (0, 1, 1), (0, "x", 1), (1, 0), (1, "y"), (1, "z"))
+
+
+def many():
+    """A grammar with 20 nonterminals and 60 rules, and 48 filters that make 44 places more."""
+    rules = [(k % 20, (k + 1) % 20, (k + 1) % 20) for k in range(60)]
+    sieves = []
+    for r in range(20):
+        first = (r + 1) % 20
+        sieves += [[0, r, 0, first], [0, r, 1, first + 20]]
+    for r in range(20, 24):
+        # The second place of each is there already: rule r - 20 has made it.
+        sieves += [[0, r, 0, r + 21], [0, r, 1, r - 19]]
+    return grammar(20, *rules), sieves

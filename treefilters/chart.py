@@ -102,3 +102,14 @@ class Chart:
         if i < j and symbol[1] <= self.text[i] <= symbol[2]:
             return self.rests[r][m][j][i + 1]
         return 0
+
+
+def first_ambiguous(chart, nonterminals):
+    """The nonterminal, from and to of the shortest piece with two trees or more; None if there is none."""
+    size = len(chart.text) + 1
+    for length in range(size):
+        for i in range(size - length):
+            for a in range(nonterminals):
+                if chart.place_trees[a][i][i + length] > 1:
+                    return [a, i, i + length]
+    return None

@@ -7,6 +7,7 @@ from treefilters.rows import Row
 
 NONTERMINAL = 0
 RANGE = 1
+START = 0
 MOST_NONTERMINALS = 20
 MOST_RULES = 60
 MOST_SYMBOLS = 8

@@ -62,3 +62,17 @@ class LargeTree(Refusal):
 
     def __init__(self):
         Refusal.__init__(self, -8)
+
+
+class BadNodes(Refusal):
+    """A list doesn't have three numbers for each node, or has too many nodes."""
+
+    def __init__(self):
+        Refusal.__init__(self, -9)
+
+
+class NoFilter(Refusal):
+    """Fewer filters are held than the number asked for."""
+
+    def __init__(self):
+        Refusal.__init__(self, -10)

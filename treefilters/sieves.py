@@ -47,6 +47,18 @@ def filters_of(numbers, grammar):
     return filters
 
 
+def row_of_filters(filters):
+    """The filter row that tells the filters."""
+    row = [len(filters)]
+    for sieve in filters:
+        if sieve[0] == WORD:
+            row.extend([WORD, sieve[1], len(sieve[2])])
+            row.extend(sieve[2])
+        else:
+            row.extend(sieve)
+    return row
+
+
 def pieces_followed(text, low, high):
     """The pieces that a byte from low to high follows."""
     pieces = []
@@ -75,3 +87,18 @@ def banned_nodes(text, filters):
         for piece in pieces:
             banned[(sieve[1], piece[0], piece[1])] = True
     return banned
+
+
+def is_broken(sieve, met, text):
+    """Whether a tree breaks the filter, among those whose spots and links are met (by a Walk or a Reach)."""
+    if sieve[0] == FORBIDDEN_CHILD:
+        return met.has_link(sieve[1], sieve[2], sieve[3])
+    return any([met.has_spot(node[0], node[1], node[2]) for node in banned_nodes(text, [sieve])])
+
+
+def first_broken(filters, met, text):
+    """The number of the first filter that is broken, None if there is none."""
+    for f, sieve in enumerate(filters):
+        if is_broken(sieve, met, text):
+            return f
+    return None
